@@ -1,0 +1,1 @@
+"""Neverrounds: rounds through rooms that never, maybe or surely meet."""
