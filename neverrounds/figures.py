@@ -1,4 +1,4 @@
-"""How names and numbers are written."""
+"""How names, numbers and spans are written."""
 
 from neverrounds.errors import BadNumber
 
@@ -38,3 +38,11 @@ def is_number(text):
     if digits[0] == "0":
         return text == "0"
     return all([sign in DIGITS for sign in digits])
+
+
+def read_span(text):
+    """The two numbers of a span that is written as low..high or as one number; low may be above high."""
+    low, dots, high = text.partition("..")
+    if dots == "":
+        high = low
+    return read_number(low), read_number(high)

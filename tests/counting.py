@@ -23,3 +23,99 @@ def subsets(numbers):
     """All plain sets of some of the numbers."""
     numbers = list(numbers)
     return [{x for x, taken in zip(numbers, word) if taken} for word in product((False, True), repeat=len(numbers))]
+
+
+def all_lengths(stays):
+    """Every list of lengths that fits some stays."""
+    return [list(lengths) for lengths in product(*[range(least, most + 1) for _, least, most in stays])]
+
+
+def steps_of(stays, start, lengths):
+    """The steps (room, enter, leave) of a group."""
+    steps = []
+    for (room, _, _), length in zip(stays, lengths):
+        steps.append((room, start, start + length))
+        start += length
+    return steps
+
+
+def all_steps(stays, start):
+    """The steps of a group for every list of lengths."""
+    return [steps_of(stays, start, lengths) for lengths in all_lengths(stays)]
+
+
+def places(steps):
+    """Every pair (moment, room) of a group in a room that is not the hall."""
+    return {(moment, room) for room, enter, leave in steps for moment in range(enter, leave) if room != "hall"}
+
+
+def meeting_differences(one, other):
+    """Every difference at which two groups with fixed lengths, given from the start 0, share a room."""
+    return {x - y for x, room in places(one) for y, place in places(other) if room == place}
+
+
+def counted_words(first, second):
+    """The differences at which the groups can meet, and those at which they surely meet."""
+    found = [meeting_differences(one, other) for one in all_steps(first, 0) for other in all_steps(second, 0)]
+    return set.union(*found), set.intersection(*found)
+
+
+def common_cells(one, other):
+    """The cells (i, j, offset) of two groups in their order, up to the first shared one."""
+    found = []
+    for i, (room, enter, leave) in enumerate(one, start=1):
+        for j, (place, come, gone) in enumerate(other, start=1):
+            if max(enter, come) < min(leave, gone):
+                found.append((i, j, come - enter))
+                if room == place and room != "hall":
+                    return found
+    return found
+
+
+def counted_reach(first, second, apart):
+    """The offsets of each cell in which the groups can be, as a dict of plain sets."""
+    found = {}
+    for one in all_steps(first, 0):
+        for other in all_steps(second, apart):
+            for i, j, offset in common_cells(one, other):
+                found.setdefault((i, j), set()).add(offset)
+    return found
+
+
+def counted_escapes(first, second):
+    """The offsets of each cell from which the groups can become free, as a dict of plain sets."""
+    found = {}
+    for i, (_, _, most) in enumerate(first, start=1):
+        for j, (_, _, longest) in enumerate(second, start=1):
+            found[i, j] = {offset for offset in range(1 - longest, most)
+                           if can_escape(first[i - 1:], second[j - 1:], offset)}
+    return found
+
+
+def can_escape(first, second, offset):
+    """Tell whether two groups that are in their first steps at once can go on without sharing a room."""
+    for one in all_steps(first, 0):
+        for other in all_steps(second, offset):
+            together = max(one[0][1], other[0][1]) < min(one[0][2], other[0][2])
+            if together and not places(one) & places(other):
+                return True
+    return False
+
+
+# Small rounds of many shapes, so that all pairs of them can be counted out.
+TOURS = [
+    [("a", 1, 1)],
+    [("a", 2, 5)],
+    [("b", 3, 4)],
+    [("hall", 1, 3)],
+    [("a", 2, 3), ("b", 1, 3)],
+    [("b", 1, 2), ("a", 3, 5)],
+    [("a", 3, 3), ("a", 1, 2)],
+    [("c", 10, 12), ("a", 5, 8)],
+    [("a", 1, 4), ("hall", 2, 2), ("a", 2, 2)],
+    [("b", 2, 2), ("hall", 1, 4), ("b", 1, 1)],
+    [("a", 1, 2), ("b", 2, 2), ("c", 1, 3)],
+    [("c", 2, 4), ("b", 1, 1), ("a", 1, 2)],
+    [("hall", 1, 2), ("a", 1, 1), ("b", 2, 3), ("a", 1, 2)],
+    [("a", 1, 2), ("c", 4, 4), ("b", 1, 2), ("hall", 1, 1), ("a", 2, 3)],
+]
