@@ -69,14 +69,20 @@ def moves(first, second, cell, offsets):
     return [((i + 1, j), first_leaves), ((i, j + 1), second_leaves), ((i + 1, j + 1), both)]
 
 
-def reach_sets(first, second, apart):
-    """The offsets with which the groups can be in a cell, for each cell in which they can be."""
+def all_reached(first, second, apart):
+    """The offsets with which the groups can come into each cell, also beyond the last steps, where they are free."""
     reached = first_cells(first, second, apart)
     for cell in cells(first, second):
         if cell in reached and not is_shared(first, second, cell):
             found = moves(first, second, cell, reached[cell])
             for target, offsets in found:
                 reached[target] = reached.get(target, Moments.none()) | offsets
+    return reached
+
+
+def reach_sets(first, second, apart):
+    """The offsets with which the groups can be in a cell, for each cell in which they can be."""
+    reached = all_reached(first, second, apart)
     return {cell: reached[cell] for cell in cells(first, second) if cell in reached and len(reached[cell]) > 0}
 
 

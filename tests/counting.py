@@ -102,6 +102,87 @@ def can_escape(first, second, offset):
     return False
 
 
+def counted_starts(first, second, apart):
+    """The first common cells with their offsets, as a plain set of (i, j, offset); None if there may be none."""
+    found = set()
+    for one in all_steps(first, 0):
+        for other in all_steps(second, apart):
+            common = [(i, j, come - enter) for i, (_, enter, leave) in enumerate(one, start=1)
+                      for j, (_, come, gone) in enumerate(other, start=1) if max(enter, come) < min(leave, gone)]
+            if not common:
+                return None
+            found.add(common[0])
+    return found
+
+
+def counted_moves(first, second, i, j, offset):
+    """The cells and offsets to which the moves from an offset of a cell lead, as a plain set of (i, j, offset)."""
+    _, a, b = first[i - 1]
+    _, p, q = second[j - 1]
+    found = set()
+    for t in range(a, b + 1):
+        if 1 - q <= offset - t <= -1:
+            found.add((i + 1, j, offset - t))
+        for u in range(p, q + 1):
+            if 1 <= offset + u <= b - 1:
+                found.add((i, j + 1, offset + u))
+            if offset == t - u:
+                found.add((i + 1, j + 1, 0))
+    return found
+
+
+def counted_trap(first, second, apart, cells):
+    """Tell whether the cells of a Trap are right, looking at every offset and every move."""
+    keys = [(i, j) for i, j, _ in cells]
+    starts = counted_starts(first, second, apart)
+    if starts is None or any(left >= right for left, right in zip(keys, keys[1:])):
+        return False
+    if not all(1 <= i <= len(first) and 1 <= j <= len(second) for i, j in keys):
+        return False
+    listed = {(i, j, offset) for i, j, offsets in cells for offset in members(offsets)}
+    reached = set(starts)
+    for i, j, offset in listed:
+        if not 1 - second[j - 1][2] <= offset <= first[i - 1][2] - 1:
+            return False
+        if not first[i - 1][0] == second[j - 1][0] != "hall":
+            reached |= counted_moves(first, second, i, j, offset)
+    return reached <= listed
+
+
+def counted_run(groups, lengths):
+    """The walks of the waiting house, minute by minute: lists of tuples (room, come, enter, leave)."""
+    walks = [[] for _ in groups]
+    queues = {}
+    now = min((start for _, _, start in groups), default=0)
+    while any(len(steps) < len(stays) or steps[-1][3] is None or steps[-1][3] > now
+              for steps, (_, stays, _) in zip(walks, groups)):
+        for place, (_, stays, start) in enumerate(groups):
+            steps = walks[place]
+            coming = now == start if not steps else now == steps[-1][3]
+            if coming and len(steps) < len(stays):
+                steps.append([stays[len(steps)][0], now, None, None])
+                queues.setdefault(steps[-1][0], []).append(place)
+        for room, queue in queues.items():
+            while queue and (room == "hall" or not is_taken(walks, room, now)):
+                place = queue.pop(0)
+                walks[place][-1][2:] = [now, now + lengths[place][len(walks[place]) - 1]]
+        now += 1
+    return [[tuple(step) for step in steps] for steps in walks]
+
+
+def is_taken(walks, room, now):
+    """Tell whether some group is in a room at a moment."""
+    return any(place == room and enter is not None and enter <= now < leave
+               for steps in walks for place, _, enter, leave in steps)
+
+
+def counted_waits(groups, walks):
+    """The waits (name, step, room, come, enter) of some walks, by the moment at which they begin, then by the group."""
+    found = [(come, place, (name, step, room, come, enter)) for place, (name, _, _) in enumerate(groups)
+             for step, (room, come, enter, _) in enumerate(walks[place], start=1) if come < enter]
+    return [row for _, _, row in sorted(found, key=lambda row: row[:2])]
+
+
 # Small rounds of many shapes, so that all pairs of them can be counted out.
 TOURS = [
     [("a", 1, 1)],
