@@ -4,11 +4,16 @@ from neverrounds.errors import BadLengths
 from neverrounds.rounds import HALL
 
 
-def walk(tour, start, lengths):
-    """The steps of a group as tuples (room, enter, leave)."""
+def check_lengths(tour, lengths):
+    """Refuse a list of lengths that does not fit the round."""
     wrong = tour.misfit(lengths)
     if wrong is not None:
         raise BadLengths(wrong)
+
+
+def walk(tour, start, lengths):
+    """The steps of a group as tuples (room, enter, leave)."""
+    check_lengths(tour, lengths)
     steps = []
     enter = start
     for (room, _, _), length in zip(tour.stays, lengths):
