@@ -18,6 +18,10 @@ class Clock:
         """The start as the clock keeps it."""
         return start
 
+    def turned(self, moments):
+        """The set of some moments as the clock keeps them."""
+        return moments
+
     def meets(self, differences, apart):
         """Tell whether a difference is in a set of differences on this clock."""
         return apart in differences
@@ -35,6 +39,10 @@ class Clock:
     def fits(self, tour, start):
         """Tell whether a round can be placed at a start."""
         return all([most <= self.length for _, _, most in tour.stays])
+
+    def last_start(self, tour):
+        """The greatest start below the length at which a round fits that fits at 0."""
+        return self.length - 1
 
     def widest_gap(self, tour, count):
         """The greatest gap between neighbours in a row of groups that is asked about."""
@@ -56,6 +64,10 @@ class Day(Clock):
         """Tell whether a round can be placed at a start, so that it surely ends in time."""
         return super().fits(tour, start) and 0 <= start and start + tour.longest <= self.length
 
+    def last_start(self, tour):
+        """The greatest start from which a round surely ends in time."""
+        return self.length - tour.longest
+
     def widest_gap(self, tour, count):
         """The greatest gap with which a row of groups fits the day."""
         return (self.length - tour.longest) // (count - 1)
@@ -72,9 +84,13 @@ class Ring(Clock):
         """The start as the clock keeps it, from 0 to the length minus 1."""
         return start % self.length
 
+    def turned(self, moments):
+        """The set of some moments as the clock keeps them, from 0 to the length minus 1."""
+        return moments % self.length
+
     def meets(self, differences, apart):
         """Tell whether a set of differences has this one, or one that is some turns of the ring away."""
-        return self.placed(apart) in (differences % self.length)
+        return self.placed(apart) in self.turned(differences)
 
     def fits(self, tour, start):
         """Tell whether a round can be placed at a start, so that no two of its copies can meet."""
@@ -86,12 +102,17 @@ class Ring(Clock):
 
     def bad_gaps(self, differences, times, widest):
         """The set of the gaps from 1 to the widest one that, taken some times, meet a set of differences."""
-        turned = differences % self.length
+        once = self.turned(differences)
         found = Moments.none()
         for turn in range(times * widest // self.length + 1):
-            found = found | ((turned >> (turn * self.length)) // times)
+            found = found | ((once >> (turn * self.length)) // times)
         return found.clipped(1, widest)
 
     def words(self):
         """The clock as a text."""
         return f"ring {write_number(self.length)}"
+
+
+def clock_of(word, length):
+    """The day or the ring of a length, by its word."""
+    return Day(length) if word == "day" else Ring(length)

@@ -1,6 +1,6 @@
 """How names, numbers and spans are written."""
 
-from neverrounds.errors import BadNumber
+from neverrounds.errors import BadNumber, BadText
 
 # Written out, because the methods of strings also take letters and digits of other scripts.
 LETTERS = "abcdefghijklmnopqrstuvwxyz"
@@ -40,9 +40,18 @@ def is_number(text):
     return all([sign in DIGITS for sign in digits])
 
 
-def read_span(text):
-    """The two numbers of a span that is written as low..high or as one number; low may be above high."""
+def write_span(low, high):
+    """A span as low..high, or as the one number that it has."""
+    if low == high:
+        return write_number(low)
+    return f"{write_number(low)}..{write_number(high)}"
+
+
+def read_span(text, place):
+    """The two numbers of a span, which is the part of a text at this place; low may be above high."""
     low, dots, high = text.partition("..")
     if dots == "":
         high = low
+    if not is_number(low) or not is_number(high):
+        raise BadText(place)
     return read_number(low), read_number(high)

@@ -1,6 +1,6 @@
 """Rounds: lists of stays in rooms."""
 
-from neverrounds.errors import BadCount, BadLag, BadName, BadNumber, BadStay, BadText, NoStep
+from neverrounds.errors import BadCount, BadLag, BadName, BadStay, BadText, NoStep
 from neverrounds.figures import is_name, read_span
 from neverrounds.moments import Moments
 
@@ -12,10 +12,7 @@ def read_stay(piece, place):
     words = piece.split(" ")
     if len(words) != 2 or words[0] == "":
         raise BadText(place)
-    try:
-        least, most = read_span(words[1])
-    except BadNumber:
-        raise BadText(place) from None
+    least, most = read_span(words[1], place)
     return words[0], least, most
 
 

@@ -2,8 +2,8 @@
 
 import unittest
 
-from neverrounds.errors import BadNumber
-from neverrounds.figures import is_name, read_number, write_number
+from neverrounds.errors import BadNumber, BadText
+from neverrounds.figures import is_name, is_number, read_number, read_span, write_number, write_span
 
 SIXTY = "123456789" + "0" * 50 + "7"
 
@@ -80,6 +80,30 @@ class NumberTest(unittest.TestCase):
             with self.assertRaises(BadNumber) as caught:
                 read_number(text)
             self.assertEqual(caught.exception.text, text)
+
+    def test_it_tells_whether_a_text_is_a_number(self):
+        for text, told in (("0", True), ("-7", True), (SIXTY, True), ("-" + SIXTY, True), ("", False), ("-", False),
+                           ("-0", False), ("01", False), ("7a", False), ("1" + SIXTY, False)):
+            self.assertIs(is_number(text), told)
+
+
+class SpanTest(unittest.TestCase):
+    def test_spans_are_written(self):
+        for (low, high), text in (((1, 4), "1..4"), ((-4, -1), "-4..-1"), ((-3, 0), "-3..0"), ((7, 7), "7"),
+                                  ((-7, -7), "-7"), ((0, 0), "0"), ((0, int(SIXTY)), "0.." + SIXTY)):
+            self.assertEqual(write_span(low, high), text)
+            self.assertEqual(read_span(text, 1), (low, high))
+
+    def test_spans_are_read_as_they_stand(self):
+        self.assertEqual(read_span("4..4", 1), (4, 4))
+        self.assertEqual(read_span("9..-4", 1), (9, -4))
+
+    def test_wrong_spans(self):
+        for text in ("", "..", "1..", "..2", "1...2", "1..2..3", "1.2", "1-2", "+1", "01..2", "1..02", "-0", "1 ..2"):
+            with self.subTest(text):
+                with self.assertRaises(BadText) as caught:
+                    read_span(text, 5)
+                self.assertEqual(caught.exception.place, 5)
 
 
 if __name__ == "__main__":

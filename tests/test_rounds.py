@@ -4,7 +4,6 @@ import unittest
 
 from counting import all_lengths, all_steps, spans_of
 from neverrounds.errors import BadCount, BadLag, BadName, BadStay, BadText, NoStep
-from neverrounds.figures import read_span
 from neverrounds.moments import Moments
 from neverrounds.rounds import HALL, Round
 
@@ -318,11 +317,6 @@ class ReadTest(unittest.TestCase):
                     Round.read(text)
                 self.assertIs(type(caught.exception), error)
                 self.assertEqual(getattr(caught.exception, attribute), value)
-
-    def test_spans_are_read_as_they_stand(self):
-        self.assertEqual(read_span("4"), (4, 4))
-        self.assertEqual(read_span("-4..9"), (-4, 9))
-        self.assertEqual(read_span("9..-4"), (9, -4))
 
 
 if __name__ == "__main__":
